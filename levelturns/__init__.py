@@ -1,0 +1,1 @@
+"""Levelturns: leagues in which matches of level sides are turned."""

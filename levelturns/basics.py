@@ -1,0 +1,20 @@
+"""What several modules need: integers, sides, matches, and who won a match."""
+
+
+def is_integer(value):
+    # A bool is an int to Python, but no integer here.
+    return isinstance(value, int) and not isinstance(value, bool)
+
+
+def is_side(value, n):
+    return is_integer(value) and 0 <= value < n
+
+
+def matches(n):
+    """Return all matches of n sides, ascending."""
+    return [(a, b) for a in range(n) for b in range(a + 1, n)]
+
+
+def winner_first(league, a, b):
+    """Return the two sides, the one that won their match first."""
+    return (a, b) if b in league[a] else (b, a)

@@ -1,0 +1,76 @@
+"""The interface as the document lists it, and the rules of the language that can be measured."""
+
+import ast
+from pathlib import Path
+
+from tests.checks import Case
+
+FOLDER = Path(__file__).resolve().parent.parent / "levelturns"
+
+# The functions that each file defines, with the names of their arguments.
+INTERFACE = {
+    "leagues": {
+        "league_error": ["value"], "beat": ["league", "a", "b"], "wins": ["league"],
+        "turned": ["league", "a", "b"], "renamed": ["league", "order"], "contrary": ["league"],
+    },
+}
+
+
+def files():
+    return sorted(FOLDER.glob("*.py"))
+
+
+def tree(path):
+    return ast.parse(path.read_text())
+
+
+class InterfaceTest(Case):
+    def test_each_function_is_defined_in_its_file(self):
+        for module, wanted in INTERFACE.items():
+            body = tree(FOLDER / f"{module}.py").body
+            found = {one.name: one.args for one in body if isinstance(one, ast.FunctionDef)}
+            for name, names in wanted.items():
+                with self.subTest(module, name=name):
+                    told = found[name]
+                    self.assertEqual([one.arg for one in told.args], names)
+                    self.assertEqual((told.posonlyargs, told.kwonlyargs, told.defaults), ([], [], []))
+                    self.assertEqual((told.vararg, told.kwarg), (None, None))
+
+
+class RulesTest(Case):
+    def test_the_folder_holds_files_alone(self):
+        for path in FOLDER.iterdir():
+            if path.name != "__pycache__":
+                self.assertRegex(path.name, r"^[a-z_0-9]+\.py$")
+        self.assertTrue((FOLDER / "__init__.py").is_file())
+
+    def test_signs_and_lengths(self):
+        for path in files():
+            text = path.read_text()
+            self.assertLessEqual(len(text.split("\n")), 399, path.name)
+            for at, row in enumerate(text.split("\n"), 1):
+                with self.subTest(path.name, row=at):
+                    self.assertLessEqual(len(row), 120)
+                    self.assertTrue(all(" " <= sign <= "~" for sign in row))
+
+    def test_functions_have_at_most_forty_lines(self):
+        for path in files():
+            for one in ast.walk(tree(path)):
+                if isinstance(one, ast.FunctionDef):
+                    self.assertLessEqual(one.end_lineno - one.lineno + 1, 40, one.name)
+
+    def test_imports_come_from_the_package_alone(self):
+        for path in files():
+            for one in ast.walk(tree(path)):
+                self.assertNotIsInstance(one, ast.Import, path.name)
+                if isinstance(one, ast.ImportFrom):
+                    self.assertEqual(one.level, 0, path.name)
+                    self.assertTrue(one.module.startswith("levelturns."), path.name)
+
+    def test_modules_keep_no_state(self):
+        plain = (ast.ImportFrom, ast.FunctionDef, ast.ClassDef, ast.Assign)
+        for path in files():
+            body = tree(path).body
+            self.assertIsNotNone(ast.get_docstring(tree(path)), path.name)
+            for one in body[1:]:
+                self.assertIsInstance(one, plain, path.name)
