@@ -18,3 +18,9 @@ def matches(n):
 def winner_first(league, a, b):
     """Return the two sides, the one that won their match first."""
     return (a, b) if b in league[a] else (b, a)
+
+
+def lead(league, a, b):
+    """Return how many more wins the one of both that won their match has than the other one."""
+    winner, loser = winner_first(league, a, b)
+    return len(league[winner]) - len(league[loser])

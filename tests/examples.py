@@ -18,4 +18,64 @@ EXAMPLES = {
     >>> renamed(steps, (2, 0, 1)), renamed(circle, (1, 2, 0)) == circle, contrary(steps), contrary(circle)
     (((), (0, 2), (0,)), True, ((), (0,), (0, 1)), ((2,), (0,), (1,)))
 """,
+    "A7": r"""
+    >>> from levelturns.rankings import order_error, order_of, ranking
+    >>> [order_error(3, value) for value in ((2, 0, 1), (0, 1), [0, 1, 2], (0, 1, 3), (0, True, 2), (0, 1, 1), (1, 1, 3), (0, 1, 2, 0))]
+    [None, 'form', 'form', ('side', 2), ('side', 1), ('twice', 2), ('side', 2), 'form']
+    >>> ranking((0, 1, 2)) == steps, ranking((2, 0, 1)), order_of(steps), order_of(circle), order_of(ranking((2, 0, 3, 1))), order_of(((),))
+    (True, ((1,), (), (0, 1)), (0, 1, 2), None, (2, 0, 3, 1), (0,))
+""",
+    "A8": r"""
+    >>> from levelturns.leaguetexts import league_text, read_league
+    >>> league_text(circle), league_text(steps), league_text(four), league_text(((),))
+    ('a:b b:c c:a', 'a:bc b:c c:', 'a:bd b:c c:ad d:b', 'a:')
+    >>> read_league("a:b b:c c:a") == circle, read_league("a:bc b:c c:") == steps
+    (True, True)
+    >>> read_league("a:b b:c")
+    raises BadText('a:b b:c')
+    >>> read_league("a:cb b:c c:")
+    raises BadText('a:cb b:c c:')
+    >>> read_league("a:bc b:c c: ")
+    raises BadText('a:bc b:c c: ')
+    >>> read_league("")
+    raises BadText('')
+    >>> read_league(None)
+    raises BadText(None)
+""",
+    "B2": r"""
+    >>> from levelturns.turns import done, led, open_falls, open_rises, turn_error, turn_kind
+    >>> quad = ((1, 2), (2, 3), (3,), (0,))
+    >>> turn_kind(circle, 0, 1), turn_kind(circle, 2, 0), turn_kind(steps, 0, 1), turn_kind(steps, 2, 0), turn_kind(quad, 0, 3), turn_kind(quad, 3, 2)
+    ('rise', 'rise', 'none', 'fall', 'none', 'rise')
+    >>> [turn_error(steps, value) for value in ((0, 2), (0, 1), (2, 0), (0, 3), (0, 0), (0, True), [0, 2], (0, 1, 2), None)]
+    [None, 'bar', 'form', 'form', 'form', 'form', 'form', 'form', 'form']
+    >>> done(circle, (0, 2)) == steps, done(steps, (0, 2)) == circle, done(quad, (2, 3))
+    (True, True, ((1, 2), (2, 3), (), (0, 2)))
+    >>> led(steps, ((0, 2), (0, 1))), led(quad, ()) == quad
+    (((), (0, 2), (0,)), True)
+    >>> done(steps, (0, 1))
+    raises Refused((0, 1))
+    >>> led(steps, ((0, 2), (0, 1), (0, 2)))
+    raises Refused((0, 2))
+    >>> led(circle, ((0, 2),) * 101)
+    raises TooMany(100)
+""",
+    "B3": r"""
+    >>> open_rises(quad), open_falls(quad), open_rises(circle), open_falls(circle), open_rises(steps), open_falls(steps)
+    (((0, 1), (2, 3)), (), ((0, 1), (0, 2), (1, 2)), (), (), ((0, 2),))
+    >>> open_rises(((),)), open_falls(((), (0,)))
+    ((), ())
+""",
+    "C2": r"""
+    >>> from levelturns.rings import ring_change, ring_count, rings, rings_with
+    >>> crossed, spin = ((1, 2), (2, 3), (3,), (0,)), ((1, 2), (2, 3), (3, 4), (0, 4), (0, 1))
+    >>> rings(crossed), ring_count(crossed), [rings_with(crossed, side) for side in range(4)]
+    (((0, 1, 3), (0, 2, 3)), 2, [2, 1, 1, 2])
+    >>> rings(spin), ring_count(spin), rings_with(spin, 2)
+    (((0, 1, 3), (0, 2, 3), (0, 2, 4), (1, 2, 4), (1, 3, 4)), 5, 3)
+    >>> rings(((2,), (0,), (1,))), rings(((1, 2), (2,), ())), ring_count(((),)), rings(((1,), ()))
+    (((0, 2, 1),), (), 0, ())
+    >>> ring_change(crossed, 0, 1), ring_change(crossed, 1, 0), ring_change(crossed, 0, 3), ring_change(crossed, 2, 0), ring_change(((1, 2), (2,), ()), 0, 2)
+    (-1, -1, -2, 0, 1)
+""",
 }

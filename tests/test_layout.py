@@ -13,6 +13,16 @@ INTERFACE = {
         "league_error": ["value"], "beat": ["league", "a", "b"], "wins": ["league"],
         "turned": ["league", "a", "b"], "renamed": ["league", "order"], "contrary": ["league"],
     },
+    "rankings": {"order_error": ["n", "value"], "ranking": ["order"], "order_of": ["league"]},
+    "leaguetexts": {"league_text": ["league"], "read_league": ["value"]},
+    "turns": {
+        "turn_kind": ["league", "a", "b"], "turn_error": ["league", "value"], "done": ["league", "turn"],
+        "led": ["league", "some"], "open_rises": ["league"], "open_falls": ["league"],
+    },
+    "rings": {
+        "rings": ["league"], "ring_count": ["league"], "rings_with": ["league", "side"],
+        "ring_change": ["league", "a", "b"],
+    },
 }
 
 
