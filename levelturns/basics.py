@@ -15,6 +15,11 @@ def matches(n):
     return [(a, b) for a in range(n) for b in range(a + 1, n)]
 
 
+def match_of(a, b):
+    """Return the match of two sides: the pair of both, the lesser one first."""
+    return (min(a, b), max(a, b))
+
+
 def winner_first(league, a, b):
     """Return the two sides, the one that won their match first."""
     return (a, b) if b in league[a] else (b, a)

@@ -78,4 +78,56 @@ EXAMPLES = {
     >>> ring_change(crossed, 0, 1), ring_change(crossed, 1, 0), ring_change(crossed, 0, 3), ring_change(crossed, 2, 0), ring_change(((1, 2), (2,), ()), 0, 2)
     (-1, -1, -2, 0, 1)
 """,
+    "D2": r"""
+    >>> from levelturns.signs import joined, order_sign, sign, way
+    >>> back = contrary(circle)
+    >>> [sign(league) for league in (circle, back, steps, ranking((1, 0, 2)), ranking((1, 2, 0)), ((),), ((1,), ()), ((), (0,)))]
+    [0, 1, 0, 1, 0, 0, 0, 1]
+    >>> [order_sign(order) for order in ((0, 1, 2), (1, 0, 2), (1, 2, 0), (2, 1, 0), (0,))]
+    [0, 1, 0, 1, 0]
+    >>> joined(circle, steps), joined(circle, back), joined(((1,), ()), ((), (0,))), joined(steps, steps)
+    (True, False, False, True)
+    >>> sign(turned(steps, 0, 2)), sign(turned(steps, 0, 1)), sign(renamed(circle, (1, 0, 2))), renamed(circle, (1, 0, 2)) == back
+    (0, 1, 1, True)
+""",
+    "D3": r"""
+    >>> from levelturns.turns import led
+    >>> led(circle, way(circle, steps)) == steps, led(steps, way(steps, steps)) == steps, len(way(ranking((0, 1, 2, 3)), ranking((1, 2, 0, 3)))) > 1
+    (True, True, True)
+    >>> crown = ((1, 3), (2, 3), (0, 3), ())
+    >>> led(crown, way(crown, ranking((2, 0, 1, 3)))) == ranking((2, 0, 1, 3)), led(crown, ((0, 1),)) == ranking((1, 2, 0, 3))
+    (True, True)
+    >>> way(circle, back)
+    raises Unfit()
+""",
+    "D4": r"""
+    >>> from levelturns.joinpapers import paper, paper_error
+    >>> paper(circle, back), paper(((1,), ()), ((), (0,))), paper(circle, steps)[0], paper_error(circle, steps, paper(circle, steps))
+    (('apart', 3, 1, 1), ('apart', 1, 0, 0), 'way', None)
+    >>> [paper_error(circle, steps, value) for value in (("way", ((0, 2),)), ("way", ()), ("way", ((2, 0),)), ("way", [(0, 2)]), ("apart", 1, 1, 0), ("apart", 1, 1, 1), ("way",), ["way", ((0, 2),)], None)]
+    [None, 'way', 'way', 'way', 'apart', 'apart', 'form', 'form', 'form']
+    >>> [paper_error(circle, back, value) for value in (("apart", 3, 1, 1), ("apart", 3, True, 1), ("apart", 1, 1, 1), ("apart", 3, 1), ("way", ((0, 1), (0, 2), (1, 2))))]
+    [None, 'apart', 'apart', 'form', 'way']
+""",
+    "E2": r"""
+    >>> from levelturns.risings import next_counts, row_at, row_count, row_number
+    >>> [row_count(league) for league in (circle, steps, crown, quad, ((),))], next_counts(circle), next_counts(quad), next_counts(steps)
+    ([3, 1, 3, 6, 1], (((0, 1), 1), ((0, 2), 1), ((1, 2), 1)), (((0, 1), 3), ((2, 3), 3)), ())
+    >>> row_count(spin), [number for turn, number in next_counts(spin)]
+    (360, [36, 36, 36, 36, 36, 36, 36, 36, 36, 36])
+""",
+    "E3": r"""
+    >>> [row_at(quad, number) for number in (0, 2, 3, 5)], [row_number(quad, row_at(quad, number)) for number in range(6)]
+    ([((0, 1), (0, 2)), ((0, 1), (2, 3)), ((2, 3), (0, 1)), ((2, 3), (1, 3))], [0, 1, 2, 3, 4, 5])
+    >>> row_at(steps, 0), row_number(steps, ()), row_number(circle, ((1, 2),)), len(row_at(spin, 359))
+    ((), 0, 2, 5)
+    >>> row_at(circle, 3)
+    raises Unfit()
+    >>> row_at(circle, True)
+    raises Unfit()
+    >>> row_number(circle, ())
+    raises Unfit()
+    >>> row_number(circle, ((0, 1), (0, 2)))
+    raises Unfit()
+""",
 }

@@ -23,6 +23,14 @@ INTERFACE = {
         "rings": ["league"], "ring_count": ["league"], "rings_with": ["league", "side"],
         "ring_change": ["league", "a", "b"],
     },
+    "signs": {
+        "sign": ["league"], "order_sign": ["order"], "joined": ["one", "other"], "way": ["one", "other"],
+    },
+    "joinpapers": {"paper": ["one", "other"], "paper_error": ["one", "other", "value"]},
+    "risings": {
+        "row_count": ["league"], "next_counts": ["league"], "row_at": ["league", "number"],
+        "row_number": ["league", "value"],
+    },
 }
 
 

@@ -3,18 +3,12 @@ from levelturns.leagues import beat, turned, wins
 from levelturns.rankings import order_of
 from levelturns.turns import done, led, open_falls, open_rises, turn_error, turn_kind
 from tests.checks import Case
+from tests.judges import kind_of
 from tests.samples import LEAGUES, ODD_VALUES, SMALL, pairs, ranked, round_league
 
 CIRCLE = ((1,), (2,), (0,))
 STEPS = ((1, 2), (2,), ())
 QUAD = ((1, 2), (2, 3), (3,), (0,))
-
-
-def kind_of(league, a, b):
-    """Return what the match of a and b is, as the document tells it."""
-    winner, loser = (a, b) if b in league[a] else (b, a)
-    ahead = len(league[winner]) - len(league[loser])
-    return {0: "rise", 2: "fall"}.get(ahead, "none")
 
 
 class TurnKindTest(Case):
