@@ -2,6 +2,7 @@
 
 from levelturns.basics import is_integer
 from levelturns.errors import Refused, TooMany
+from levelturns.nearest import differing
 from levelturns.rings import ring_count
 from levelturns.signs import joined, way
 from levelturns.turns import led
@@ -55,6 +56,4 @@ def _parts(one, other, numbers):
 
 def _differences(one, other):
     """Return how many matches differ, how many rings one has, and how many other has."""
-    # Who won a match that differs beat somebody in one whom they did not beat in other.
-    differing = [(a, b) for a, row in enumerate(one) for b in row if b not in other[a]]
-    return (len(differing), ring_count(one), ring_count(other))
+    return (len(differing(one, other)), ring_count(one), ring_count(other))

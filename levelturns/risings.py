@@ -58,35 +58,35 @@ def _is_rise(league, value):
 
 
 def _rows_of(league, known):
-    return rows_from(tuple(sorted(wins(league))), known)
+    return count_rows(tuple(sorted(wins(league))), known)
 
 
 def _rows_by_turn(league, known):
     return [(turn, _rows_of(done(league, turn), known)) for turn in open_rises(league)]
 
 
-def rows_from(counts, known):
+def count_rows(counts, known):
     """Return how many whole rows of rises a league has whose wins, put in ascending order, are counts.
 
     known, a dict that is empty at first, keeps what was counted from one call to the next.
     """
     if counts not in known:
-        rows = [pairs * rows_from(behind, known) for pairs, behind in partings(counts)]
+        rows = [ways * count_rows(behind, known) for ways, behind in partings(counts)]
         # Where no two are level there is the empty row alone.
         known[counts] = sum(rows) if rows else 1
     return known[counts]
 
 
 def partings(counts):
-    """Return, for each number of wins that several sides have, the pairs (pairs, behind).
+    """Return, for each number of wins that several sides have, a pair (ways, behind); ascending numbers.
 
-    pairs is how many pairs of such sides there are, behind the wins, ascending, when one of them has risen.
+    ways is how many pairs of such level sides there are, behind the wins, ascending, once one of them has risen.
     """
     found = []
-    for many in sorted(set(counts)):
-        level = counts.count(many)
-        if level > 1:
-            others = [count for count in counts if count != many]
-            behind = sorted(others + [many] * (level - 2) + [many - 1, many + 1])
-            found.append((level * (level - 1) // 2, tuple(behind)))
+    for level in sorted(set(counts)):
+        many = counts.count(level)
+        if many > 1:
+            others = [count for count in counts if count != level]
+            behind = sorted(others + [level] * (many - 2) + [level - 1, level + 1])
+            found.append((many * (many - 1) // 2, tuple(behind)))
     return found

@@ -2,9 +2,10 @@
 
 from levelturns.basics import match_of, matches
 from levelturns.errors import Unfit
+from levelturns.kept import kept_row
 from levelturns.rankings import order_of
 from levelturns.rings import ring_count
-from levelturns.turns import done, open_rises
+from levelturns.turns import led
 
 
 def sign(league):
@@ -28,19 +29,9 @@ def way(one, other):
     """Return turns by which one is led to other; raise Unfit() if they are not joined."""
     if not joined(one, other):
         raise Unfit()
-    up, first = _climb(one)
-    down, last = _climb(other)
-    # Each turn takes itself back: the row up from other, gone from its end, leads down to it.
-    return up + _rounds(first, last) + down[::-1]
-
-
-def _climb(league):
-    """Return a whole row of rises of league, and the order that it reaches."""
-    present, row = league, ()
-    while order_of(present) is None:
-        turn = open_rises(present)[0]
-        present, row = done(present, turn), row + (turn,)
-    return row, order_of(present)
+    # Whole rows of rises, whichever ones. Each turn takes itself back, so one goes down from its end, too.
+    up, down = kept_row(one, 0), kept_row(other, 0)
+    return up + _rounds(order_of(led(one, up)), order_of(led(other, down))) + down[::-1]
 
 
 def _rounds(order, goal):

@@ -49,6 +49,11 @@ def led(league, some):
     return present
 
 
+def open_turns(league):
+    """Return all turns that can be done in league, ascending."""
+    return tuple([(a, b) for a, b in matches(len(league)) if turn_kind(league, a, b) != "none"])
+
+
 def open_rises(league):
     """Return all turns that are rises in league, ascending."""
     return _turns_of_kind(league, "rise")

@@ -130,4 +130,95 @@ EXAMPLES = {
     >>> row_number(circle, ((0, 1), (0, 2)))
     raises Unfit()
 """,
+    "F2": r"""
+    >>> from levelturns.kept import ahead_row, covers, kept_row
+    >>> from levelturns.rankings import order_of
+    >>> [covers(quad, a, b) for a, b in ((1, 2), (0, 1), (0, 2), (2, 3), (3, 0), (2, 1))], covers(steps, 0, 2), covers(steps, 2, 0)
+    ([True, False, False, False, False, False], True, False)
+    >>> [kept_row(quad, side) for side in (0, 2, 3)], kept_row(circle, 1), kept_row(steps, 2)
+    ([((2, 3), (1, 3)), ((0, 1), (0, 3)), ((0, 1), (0, 2))], ((0, 2),), ())
+    >>> ahead_row(quad, 3, 1), ahead_row(quad, 2, 3) in (((0, 1), (0, 2)), ((0, 1), (0, 3))), ahead_row(circle, 1, 0), ahead_row(steps, 0, 2)
+    (((2, 3), (1, 3)), True, ((0, 1),), ())
+    >>> ahead_row(quad, 2, 1)
+    raises Unfit()
+    >>> order = order_of(led(spin, kept_row(spin, 3)))
+    >>> order[2], sorted(order[3:]), order_of(led(spin, ahead_row(spin, 4, 2))).index(4) < order_of(led(spin, ahead_row(spin, 4, 2))).index(2)
+    (3, [0, 4], True)
+""",
+    "F3": r"""
+    >>> from levelturns.reached import cheapest, ends, row_to, sure
+    >>> ends(circle), ends(steps), ends(quad)
+    (((0, 1, 2), (1, 2, 0), (2, 0, 1)), ((0, 1, 2),), ((0, 1, 3, 2), (1, 0, 2, 3), (1, 2, 3, 0), (1, 3, 0, 2), (3, 0, 1, 2)))
+    >>> [row_to(quad, order) for order in ends(quad)], row_to(steps, (0, 1, 2))
+    ([((2, 3), (0, 3)), ((0, 1), (0, 3)), ((0, 1), (0, 2)), ((0, 1), (2, 3)), ((2, 3), (1, 3))], ())
+    >>> sure(circle), sure(quad), sure(((1, 2, 3), (2,), (3,), (1,))), sure(steps)
+    ((), ((1, 2),), ((0, 1), (0, 2), (0, 3)), ((0, 1), (0, 2), (1, 2)))
+    >>> cheapest(quad, (1, 2, 3, 4, 5, 6)), cheapest(quad, (9, 0, 0, 0, 0, 1)), cheapest(quad, (0,) * 6), cheapest(circle, (5, 3, 9)), cheapest(steps, (1, 1, 1))
+    ((3, ((0, 1), (0, 2))), (1, ((2, 3), (0, 3))), (0, ((0, 1), (0, 2))), (3, ((0, 2),)), (0, ()))
+    >>> len(ends(spin)), sure(spin), cheapest(spin, (0, 9, 0, 9, 9, 9, 9, 9, 9, 9))
+    (45, (), (18, ((0, 3), (1, 4), (0, 1), (0, 2), (0, 3))))
+    >>> row_to(quad, (0, 1, 2, 3))
+    raises Unfit()
+    >>> ends(ranking((0, 1, 2, 3, 4, 5)))
+    raises TooMany(5)
+""",
+    "G2": r"""
+    >>> from levelturns.nearest import differing, direct_way, distance, nearest_way
+    >>> from levelturns.rankings import ranking
+    >>> differing(circle, steps), differing(steps, ranking((1, 2, 0))), differing(quad, quad)
+    (((0, 2),), ((0, 1), (0, 2)), ())
+    >>> direct_way(circle, steps), direct_way(steps, ranking((1, 2, 0))), direct_way(quad, quad), direct_way(steps, ranking((1, 0, 2)))
+    (((0, 2),), ((0, 2), (0, 1)), (), None)
+    >>> direct_way(quad, ranking((0, 1, 3, 2))), direct_way(quad, ranking((0, 2, 1, 3)))
+    (((2, 3), (0, 3)), None)
+    >>> direct_way(ranking((0, 1, 2, 3, 4)), ranking((4, 3, 2, 1, 0)))
+    raises TooMany(8)
+""",
+    "G3": r"""
+    >>> from levelturns.turns import led
+    >>> distance(circle, steps), distance(steps, ranking((1, 2, 0))), distance(quad, quad), nearest_way(steps, ranking((1, 2, 0)))
+    (1, 2, 0, ((0, 2), (0, 1)))
+    >>> first, second = ranking((0, 1, 2, 3)), ranking((1, 0, 3, 2))
+    >>> differing(first, second), direct_way(first, second), distance(first, second), led(first, nearest_way(first, second)) == second
+    (((0, 1), (2, 3)), None, 4, True)
+    >>> distance(quad, ranking((0, 2, 1, 3))), distance(quad, ranking((1, 2, 3, 0)))
+    (4, 2)
+    >>> distance(steps, ranking((1, 0, 2)))
+    raises Unfit()
+    >>> distance(quad, first)
+    raises Unfit()
+    >>> nearest_way(ranking((0, 1, 2, 3, 4)), ranking((0, 1, 2, 3, 4)))
+    raises TooMany(4)
+""",
+    "H2": r"""
+    >>> from levelturns.leagues import wins
+    >>> from levelturns.tables import all_tables, count_with, league_with, most_rings, rises_of, table_error, table_rings, table_rows, with_rings
+    >>> [table_error(value) for value in ((1, 1, 1), (0, 2, 1), (2, 1, 1, 2), (0,), (), [1, 1, 1], (1, 1, 3), (1, True, 1))]
+    [None, None, None, None, 'form', 'form', ('item', 2), ('item', 1)]
+    >>> [table_error(value) for value in ((0, 0, 3, 3), (1, 1, 0), (1, 1, 1, 1), (0, 0, 0), (2, 2, 1), (2, 2, 2, 2))]
+    [('least', 2), ('least', 3), ('least', 4), ('least', 2), 'sum', 'sum']
+    >>> [wins(league_with(table)) for table in ((1, 1, 1), (2, 1, 1, 2), (0, 2, 1))], league_with((0, 2, 1)) == ranking((1, 2, 0))
+    ([(1, 1, 1), (2, 1, 1, 2), (0, 2, 1)], True)
+    >>> [count_with(table) for table in ((0,), (1, 1, 1), (0, 2, 1), (2, 1, 1, 2), (1, 1, 1, 3), (2, 2, 2, 2, 2), (4, 4, 4, 4, 3, 3, 3, 3))]
+    [1, 2, 1, 4, 2, 24, 46144]
+""",
+    "H3": r"""
+    >>> all_tables(1), all_tables(3), all_tables(4), [len(all_tables(n)) for n in (5, 6, 7, 8)]
+    (((0,),), ((0, 1, 2), (1, 1, 1)), ((0, 1, 2, 3), (0, 2, 2, 2), (1, 1, 1, 3), (1, 1, 2, 2)), [9, 22, 59, 167])
+    >>> [(table_rings(table), table_rows(table)) for table in ((1, 1, 1), (2, 1, 1, 2), (0, 2, 1), (1, 2, 2, 2, 3), (2, 2, 2, 2, 2))], table_rows((3, 3, 3, 3, 4, 4, 4, 4))
+    ([(1, 3), (2, 6), (0, 1), (4, 36), (5, 360)], 893110613760)
+    >>> rises_of((1, 1, 1)), rises_of((2, 1, 1, 2)), rises_of((0, 2, 1)), rises_of((2, 2, 2, 2, 2))
+    (((0, 1, 2),), ((0, 2, 2, 2), (1, 1, 1, 3)), (), ((1, 2, 2, 2, 3),))
+""",
+    "H4": r"""
+    >>> from levelturns.rings import ring_count
+    >>> [most_rings(n) for n in range(1, 9)], [ring_count(with_rings(5, number)) for number in range(6)], ring_count(with_rings(8, 13))
+    ([0, 0, 1, 2, 5, 8, 14, 20], [0, 1, 2, 3, 4, 5], 13)
+    >>> with_rings(4, 3)
+    raises Unfit()
+    >>> with_rings(4, True)
+    raises Unfit()
+    >>> with_rings(1, 0), len(with_rings(2, 0))
+    (((),), 2)
+""",
 }

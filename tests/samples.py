@@ -59,6 +59,10 @@ def some_leagues(n):
 SMALL = [league for n in range(1, 5) for league in all_leagues(n)]
 LARGE = [league for n in range(5, 9) for league in some_leagues(n)]
 LEAGUES = SMALL + LARGE
+# Leagues with orders by which to rename their sides.
+RENAMINGS = [(league, order) for league in SMALL for order in all_orders(len(league))] + [
+    (league, order) for league in LARGE for order in some_orders(len(league))
+]
 
 
 def deep(kind, depth):

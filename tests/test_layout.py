@@ -31,7 +31,25 @@ INTERFACE = {
         "row_count": ["league"], "next_counts": ["league"], "row_at": ["league", "number"],
         "row_number": ["league", "value"],
     },
+    "kept": {
+        "covers": ["league", "a", "b"], "kept_row": ["league", "side"], "ahead_row": ["league", "a", "b"],
+    },
+    "reached": {
+        "ends": ["league"], "row_to": ["league", "order"], "sure": ["league"], "cheapest": ["league", "prices"],
+    },
+    "nearest": {
+        "differing": ["one", "other"], "direct_way": ["one", "other"], "distance": ["one", "other"],
+        "nearest_way": ["one", "other"],
+    },
+    "tables": {
+        "table_error": ["value"], "league_with": ["table"], "all_tables": ["n"], "table_rings": ["table"],
+        "table_rows": ["table"], "count_with": ["table"], "rises_of": ["table"], "most_rings": ["n"],
+        "with_rings": ["n", "number"],
+    },
 }
+
+# What the rules let in from the library, as far as it is used.
+LIBRARY = {"itertools": {"combinations"}}
 
 
 def files():
@@ -83,7 +101,21 @@ class RulesTest(Case):
                 self.assertNotIsInstance(one, ast.Import, path.name)
                 if isinstance(one, ast.ImportFrom):
                     self.assertEqual(one.level, 0, path.name)
-                    self.assertTrue(one.module.startswith("levelturns."), path.name)
+                    names = {name.name for name in one.names}
+                    known = one.module.startswith("levelturns.") or names <= LIBRARY.get(one.module, set())
+                    self.assertTrue(known, path.name)
+
+    def test_no_two_files_import_from_each_other(self):
+        wanted = {path.stem: self.imported_by(path) for path in files()}
+        while wanted:
+            free = [name for name, others in wanted.items() if not others & set(wanted)]
+            self.assertNotEqual(free, [], wanted)
+            for name in free:
+                del wanted[name]
+
+    def imported_by(self, path):
+        imports = [one.module for one in ast.walk(tree(path)) if isinstance(one, ast.ImportFrom)]
+        return {module.split(".")[1] for module in imports if module.startswith("levelturns.")}
 
     def test_modules_keep_no_state(self):
         plain = (ast.ImportFrom, ast.FunctionDef, ast.ClassDef, ast.Assign)

@@ -5,7 +5,7 @@ from levelturns.rankings import order_of
 from levelturns.rings import ring_change, ring_count, rings, rings_with
 from levelturns.turns import led, open_falls, open_rises
 from tests.checks import Case
-from tests.samples import LARGE, LEAGUES, SMALL, all_orders, pairs, ranked, round_league, some_orders
+from tests.samples import LEAGUES, RENAMINGS, pairs, ranked, round_league
 
 CROSSED = ((1, 2), (2, 3), (3,), (0,))
 
@@ -123,19 +123,12 @@ class WhatHoldsTest(Case):
                 self.assertEqual(ring_count(behind), wanted, (league, turns))
 
     def test_renamed(self):
-        for league in SMALL:
-            for order in all_orders(len(league)):
-                self.check_renamed(league, order)
-        for league in LARGE:
-            for order in some_orders(len(league)):
-                self.check_renamed(league, order)
-
-    def check_renamed(self, league, order):
-        known = {ring[at:] + ring[:at] for ring in rings(league) for at in range(3)}
-        found = rings(renamed(league, order))
-        self.assertEqual(len(found), ring_count(league), (league, order))
-        for a, b, c in found:
-            self.assertIn((order[a], order[b], order[c]), known)
+        for league, order in RENAMINGS:
+            known = {ring[at:] + ring[:at] for ring in rings(league) for at in range(3)}
+            found = rings(renamed(league, order))
+            self.assertEqual(len(found), ring_count(league), (league, order))
+            for a, b, c in found:
+                self.assertIn((order[a], order[b], order[c]), known)
 
     def test_contrary(self):
         for league in LEAGUES:

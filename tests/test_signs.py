@@ -8,7 +8,7 @@ from levelturns.signs import joined, order_sign, sign, way
 from tests.checks import Case
 from tests.judges import differing_in, is_way, open_in, seconds, sign_of, steps_from, turned_over
 from tests.samples import (
-    LARGE, LEAGUES, SMALL, all_leagues, all_orders, league_numbered, pairs, ranked, round_league, some_leagues,
+    LEAGUES, RENAMINGS, all_leagues, all_orders, league_numbered, pairs, ranked, round_league, some_leagues,
     some_orders,
 )
 
@@ -189,16 +189,9 @@ class WhatHoldsTest(Case):
             self.assert_same(sign(ranking(order)), order_sign(order), order)
 
     def test_renamed(self):
-        for league in SMALL:
-            for order in all_orders(len(league)):
-                self.check_renamed(league, order)
-        for league in LARGE:
-            for order in some_orders(len(league)):
-                self.check_renamed(league, order)
-
-    def check_renamed(self, league, order):
-        stays = sign(renamed(league, order)) == sign(league)
-        self.assertEqual(stays, order_sign(order) == 0, (league, order))
+        for league, order in RENAMINGS:
+            stays = sign(renamed(league, order)) == sign(league)
+            self.assertEqual(stays, order_sign(order) == 0, (league, order))
 
     def test_as_many_leagues_of_each_sign(self):
         for n in range(2, 6):
