@@ -10,6 +10,14 @@ def is_side(value, n):
     return is_integer(value) and 0 <= value < n
 
 
+def is_pair_of_sides(value, n):
+    """Return whether value is a pair of unlike sides of n."""
+    if not isinstance(value, tuple) or len(value) != 2:
+        return False
+    a, b = value
+    return is_side(a, n) and is_side(b, n) and a != b
+
+
 def matches(n):
     """Return all matches of n sides, ascending."""
     return [(a, b) for a in range(n) for b in range(a + 1, n)]

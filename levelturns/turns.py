@@ -1,6 +1,6 @@
 """Turns: rises and falls, what can be done, and what comes of it."""
 
-from levelturns.basics import is_side, lead, matches
+from levelturns.basics import is_pair_of_sides, lead, matches
 from levelturns.bounds import MAX_WAY
 from levelturns.errors import Refused, TooMany
 from levelturns.leagues import turned
@@ -18,17 +18,10 @@ def turn_kind(league, a, b):
 
 def turn_error(league, value):
     """Return None if value is a turn that can be done in league, else "form" or "bar"."""
-    if not _is_match(value, len(league)):
+    if not is_pair_of_sides(value, len(league)) or value[0] > value[1]:
         return "form"
     a, b = value
     return "bar" if turn_kind(league, a, b) == "none" else None
-
-
-def _is_match(value, n):
-    if not isinstance(value, tuple) or len(value) != 2:
-        return False
-    a, b = value
-    return is_side(a, n) and is_side(b, n) and a < b
 
 
 def done(league, turn):

@@ -221,4 +221,63 @@ EXAMPLES = {
     >>> with_rings(1, 0), len(with_rings(2, 0))
     (((),), 2)
 """,
+    "I2": r"""
+    >>> from levelturns.lows import is_low, low_row
+    >>> from levelturns.rankings import ranking
+    >>> low_row(ranking((0, 1, 2))), low_row(ranking((0, 1, 2, 3))), low_row(ranking((1, 0))), low_row(((),))
+    (((0, 2),), ((0, 2), (0, 3)), (), ())
+    >>> is_low(ranking((0, 1, 2))), is_low(((1,), (2,), (0,))), is_low(((1,), (2, 3), (0, 3), (0,)))
+    (False, True, True)
+    >>> near, far = ((1, 2, 3), (2, 4), (3, 4), (1, 4), (0,)), ((1, 2, 4), (2, 4), (3, 4), (0, 1), (3,))
+    >>> from levelturns.leagues import wins
+    >>> from levelturns.rings import ring_count
+    >>> wins(near), wins(far), is_low(near), low_row(far), ring_count(near), ring_count(far)
+    ((3, 2, 2, 2, 1), (3, 2, 2, 2, 1), True, ((0, 4),), 4, 4)
+""",
+    "J2": r"""
+    >>> from levelturns.halves import filled, half_error, half_signs, most_error, most_ringed, opens, ring_range
+    >>> [half_error(value) for value in ((3, ((0, 1),)), (1, ()), (3, ((1, 0), (2, 0))), (3, ()), (8, ()))]
+    [None, None, None, None, None]
+    >>> [half_error(value) for value in (3, (3, []), (3, (), ()), (9, ()), (True, ()), (0, ()))]
+    ['form', 'form', 'form', 'sides', 'sides', 'sides']
+    >>> [half_error((3, won)) for won in (((0, 0),), ((0, 3),), ((0, 1), (1, 0)), ((1, 0), (0, 2)), ((0, 1), (0, 1)), ((0, 1), 2))]
+    [('match', 0), ('match', 0), ('match', 1), ('match', 1), ('match', 1), ('match', 1)]
+    >>> some = (3, ((0, 1),))
+    >>> opens(some), opens((3, ((0, 1), (1, 2), (2, 0)))), filled(some, (0, 1)), filled(some, (2, 1))
+    (((0, 2), (1, 2)), (), ((1, 2), (2,), ()), ((1,), (2,), (0,)))
+""",
+    "J3": r"""
+    >>> [most_error(some, value) for value in (((1,), (2,), (0,)), ((1, 2), (2,), ()), ((2,), (0,), (1,)), ((1,), ()), None)]
+    [None, ('more', 0, 2), ('match', 0, 1), 'form', 'form']
+    >>> most_ringed(some), most_ringed((3, ((0, 1), (0, 2), (1, 2))))
+    (((1,), (2,), (0,)), ((1, 2), (2,), ()))
+    >>> later = (4, ((0, 2), (0, 3), (1, 3)))
+    >>> [most_error(later, value) for value in (((1, 2, 3), (2, 3), (3,), ()), ((2, 3), (0, 3), (1, 3), ()), ((2, 3), (0, 3), (1,), (2,)))]
+    [('more', 0, 2), ('more', 2, 3), None]
+    >>> from levelturns.rings import ring_count
+    >>> [ring_count(most_ringed((n, ()))) for n in (1, 2, 3, 4, 5, 6, 7, 8)]
+    [0, 0, 1, 2, 5, 8, 14, 20]
+""",
+    "J4": r"""
+    >>> ring_range(some), half_signs(some), ring_range((4, ())), half_signs((1, ())), half_signs((2, ((1, 0),)))
+    ((0, 1), (0, 1), (0, 2), (0,), (1,))
+    >>> ring_range((5, ((0, 1), (0, 2)))), ring_range((3, ((0, 1), (1, 2), (2, 0)))), half_signs((4, ((0, 1), (0, 2), (1, 2), (1, 3), (3, 0))))
+    ((0, 5), (1, 1), (1,))
+    >>> ring_range((5, ((0, 1),)))
+    raises TooMany(8)
+""",
+    "K2": r"""
+    >>> from levelturns.books import KEYWORDS, book_error, is_name
+    >>> [is_name(value) for value in ("cup", "a", "abcdefgh", "abcdefghi", "", "Cup", "row", "rowx", 5)], KEYWORDS[0], KEYWORDS[-1]
+    ([True, True, True, False, False, False, False, True, False], 'ask', 'wins')
+    >>> circle, steps, four = ((1,), (2,), (0,)), ((1, 2), (2,), ()), ((1, 3), (2,), (0, 3), (1,))
+    >>> leagues, orders = (("cup", circle), ("flat", steps), ("quad", four)), (("goal", (1, 2, 0)),)
+    >>> some = (("wins", "cup"), ("joined", "cup", "flat"), ("row", "cup", "goal"), ("row", "flat", "goal"))
+    >>> [book_error(value) for value in ((leagues, orders, some), ((), (), ()), (leagues, orders), (leagues + leagues[:1], orders, ()), (leagues, (("cup", (0,)),), ()))]
+    [None, None, 'form', ('league', 3), ('order', 0)]
+    >>> [book_error((leagues, orders, (ask,))) for ask in (("far", "cup", "quad"), ("wins", "goal"), ("wins",), ("row", "quad", "goal"), ["wins", "cup"], ("sign", "cup", "cup"))]
+    [('ask', 0), ('ask', 0), ('ask', 0), ('ask', 0), ('ask', 0), ('ask', 0)]
+    >>> book_error((leagues, orders, (("sign", "cup"),) * 31)), book_error(((("wins", circle),), orders, ()))
+    ('many', ('league', 0))
+""",
 }

@@ -17,6 +17,10 @@ def rises_in(league):
     return [turn for turn in pairs(len(league)) if kind_of(league, *turn) == "rise"]
 
 
+def falls_in(league):
+    return [turn for turn in pairs(len(league)) if kind_of(league, *turn) == "fall"]
+
+
 def open_in(league):
     return [turn for turn in pairs(len(league)) if kind_of(league, *turn) != "none"]
 

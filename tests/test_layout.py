@@ -46,6 +46,12 @@ INTERFACE = {
         "table_rows": ["table"], "count_with": ["table"], "rises_of": ["table"], "most_rings": ["n"],
         "with_rings": ["n", "number"],
     },
+    "lows": {"is_low": ["league"], "low_row": ["league"]},
+    "halves": {
+        "half_error": ["value"], "opens": ["half"], "filled": ["half", "winners"], "most_ringed": ["half"],
+        "most_error": ["half", "value"], "ring_range": ["half"], "half_signs": ["half"],
+    },
+    "books": {"is_name": ["value"], "book_error": ["value"]},
 }
 
 # What the rules let in from the library, as far as it is used.
