@@ -280,4 +280,81 @@ EXAMPLES = {
     >>> book_error((leagues, orders, (("sign", "cup"),) * 31)), book_error(((("wins", circle),), orders, ()))
     ('many', ('league', 0))
 """,
+    "K3": r"""
+    >>> from levelturns.booktexts import book_text, read_book
+    >>> book = (leagues[:2], orders, some[:3])
+    >>> book_text(book)
+    'league cup a:b b:c c:a\nleague flat a:bc b:c c:\norder goal bca\nask wins cup\nask joined cup flat\nask row cup goal'
+    >>> read_book(book_text(book)) == book, read_book(""), book_text(((), (), ())) == ""
+    (True, ((), (), ()), True)
+    >>> read_book("order up ba\nleague x a:b b:\nask row x up\nleague y a: b:a")
+    ((('x', ((1,), ())), ('y', ((), (0,)))), (('up', (1, 0)),), (('row', 'x', 'up'),))
+    >>> read_book("league x a:b b:\nask sign y\nleague y a: b:a")
+    raises BadLine(1)
+    >>> read_book("league x a:b b:\n")
+    raises BadLine(1)
+    >>> read_book("league x a:b b:\norder x ab")
+    raises BadLine(1)
+    >>> read_book("order x aab")
+    raises BadLine(0)
+    >>> read_book(7)
+    raises BadLine(-1)
+""",
+    "K4": r"""
+    >>> from levelturns.answers import answered
+    >>> answered((leagues, orders, some))
+    ('1 1 1', 'yes', 'ab', 'error Unfit')
+    >>> answered((leagues, orders, (("rings", "quad"), ("sign", "quad"), ("rows", "quad"), ("ends", "quad"), ("sure", "quad"), ("open", "quad"), ("low", "quad"))))
+    ('2', '0', '6', 'abcd acdb adbc bcad cabd', 'ad', 'ac bd', 'none')
+    >>> answered((leagues, orders, (("far", "cup", "flat"), ("differ", "cup", "flat"), ("ends", "cup"), ("sure", "cup"), ("open", "flat"), ("low", "flat"), ("rows", "flat"))))
+    ('1', '1', 'abc bca cab', 'none', 'ac', 'ac', '1')
+    >>> big = (("big", ((1, 2, 3, 4, 5), (2, 3, 4, 5), (3, 4, 5), (4, 5), (5,), ())),)
+    >>> answered((big, (), (("ends", "big"), ("far", "big", "big"), ("rings", "big"))))
+    ('error TooMany', 'error TooMany', '0')
+""",
+    "L2": r"""
+    >>> from levelturns.desks import Desk, desk_behind
+    >>> d = Desk(four)
+    >>> [d.wins, d.rings, d.sign, d.turn(2, 0), d.wins, d.rings, d.rise(), d.league, d.is_ranking(), d.log]
+    [(2, 1, 2, 1), 2, 0, 1, (3, 1, 1, 1), 1, 2, ((1, 2, 3), (), (1, 3), (1,)), True, ((0, 2), (1, 2))]
+    >>> [d.fall(), d.log[2], d.rings, d.undo(), d.undo(), d.version, d.redo(), d.redo(), d.version]
+    [3, (0, 3), 1, 2, 1, 1, 2, 3, 3]
+    >>> [d.undo(), d.sign]
+    [2, 0]
+    >>> d.rise()
+    raises Unfit()
+    >>> d.turn(0, 1)
+    raises Refused((0, 1))
+    >>> d.turn(0, 4)
+    raises Unfit()
+    >>> Desk(((), ()))
+    raises BadLeague(('match', 0, 1))
+""",
+    "L3": r"""
+    >>> [d.at(0) == four, d.at(1), d.left(), Desk(four).left(), Desk(circle).left(), Desk(steps).is_ranking()]
+    [True, ((1, 2, 3), (2,), (3,), (1,)), 1, 6, 3, True]
+    >>> e = d.copy()
+    >>> [e == d, e.redo(), e == d, d.version, e != d, desk_behind(four, d.log) == d, desk_behind(four, d.log).log, d == d.league]
+    [True, 3, False, 2, True, True, ((0, 2), (1, 2)), False]
+    >>> d.at(3)
+    raises NoVersion(3)
+    >>> desk_behind(four, ((0, 2), (0, 2), (0, 1)))
+    raises BadLog(2)
+    >>> desk_behind(four, ((2, 0),))
+    raises BadLog(0)
+    >>> desk_behind(four, [(0, 2)])
+    raises BadLog(0)
+""",
+    "M4": r"""
+    >>> from levelturns.shells import Shell
+    >>> s = Shell()
+    >>> [s.say(line) for line in ("show", "sing", "league a:bc b:cd c:d d:a", "wins", "rings", "sign", "open", "rows", "order", "ends")]
+    ['no league', 'what', 'version 0', '2 2 1 1', '2', '1', 'ab cd', '6', 'none', 'abdc bacd bcda bdac dabc']
+    >>> [s.say(line) for line in ("turn a b", "show", "rings", "open", "turn b a", "turn a c", "turn a a", "turn a h", "turn a i", "undo", "undo", "undo", "redo")]
+    ['version 1', 'a:c b:acd c:d d:a', '1', 'ab ac ad bc bd cd', 'version 2', 'error Refused', 'error Unfit', 'error Unfit', 'what', 'version 1', 'version 0', 'error NothingToUndo', 'version 1']
+    >>> [s.say(line) for line in ("undo", "joined a:bcd b:cd c:d d:", "joined a:bcd b:cd c: d:c", "far a:bcd b:cd c: d:c", "far a:b b:", "far ", "far", "league a:b b:a", "show", 7)]
+    ['version 0', 'no', 'yes', '2', 'error Unfit', 'error BadText', 'what', 'error BadText', 'a:bc b:cd c:d d:a', 'what']
+    >>> [s.say(line) for line in ("league a:", "order", "open", "ends", "rise", "rows", "sign")]
+    ['version 0', 'a', 'none', 'a', 'error Unfit', '1', '0']
+""",
 }

@@ -52,6 +52,21 @@ INTERFACE = {
         "most_error": ["half", "value"], "ring_range": ["half"], "half_signs": ["half"],
     },
     "books": {"is_name": ["value"], "book_error": ["value"]},
+    "booktexts": {"book_text": ["book"], "read_book": ["value"]},
+    "answers": {"answered": ["book"]},
+    "desks": {"desk_behind": ["value", "log"]},
+}
+
+# The classes that a file defines: their methods with the names of the arguments, and their properties.
+CLASSES = {
+    ("desks", "Desk"): (
+        {
+            "__init__": ["value"], "turn": ["a", "b"], "rise": [], "fall": [], "undo": [], "redo": [], "at": ["version"],
+            "left": [], "is_ranking": [], "copy": [], "__eq__": ["other"],
+        },
+        {"league", "wins", "rings", "sign", "version", "log"},
+    ),
+    ("shells", "Shell"): ({"__init__": [], "say": ["line"]}, set()),
 }
 
 # What the rules let in from the library, as far as it is used.
@@ -66,17 +81,40 @@ def tree(path):
     return ast.parse(path.read_text())
 
 
+def functions_in(body):
+    return {one.name: one for one in body if isinstance(one, ast.FunctionDef)}
+
+
 class InterfaceTest(Case):
+    def check_arguments(self, told, names):
+        self.assertEqual([one.arg for one in told.args], names)
+        self.assertEqual((told.posonlyargs, told.kwonlyargs, told.defaults), ([], [], []))
+        self.assertEqual((told.vararg, told.kwarg), (None, None))
+
     def test_each_function_is_defined_in_its_file(self):
         for module, wanted in INTERFACE.items():
-            body = tree(FOLDER / f"{module}.py").body
-            found = {one.name: one.args for one in body if isinstance(one, ast.FunctionDef)}
+            found = functions_in(tree(FOLDER / f"{module}.py").body)
             for name, names in wanted.items():
                 with self.subTest(module, name=name):
-                    told = found[name]
-                    self.assertEqual([one.arg for one in told.args], names)
-                    self.assertEqual((told.posonlyargs, told.kwonlyargs, told.defaults), ([], [], []))
-                    self.assertEqual((told.vararg, told.kwarg), (None, None))
+                    self.check_arguments(found[name].args, names)
+
+    def test_each_method_is_defined_in_its_class(self):
+        for (module, name), (methods, properties) in CLASSES.items():
+            body = tree(FOLDER / f"{module}.py").body
+            found = functions_in([one for one in body if isinstance(one, ast.ClassDef) and one.name == name][0].body)
+            for method, names in methods.items():
+                with self.subTest(name, method=method):
+                    self.check_arguments(found[method].args, ["self", *names])
+                    self.assertEqual(found[method].decorator_list, [])
+            for told in properties:
+                with self.subTest(name, property=told):
+                    self.assertEqual([one.id for one in found[told].decorator_list], ["property"])
+            known = set(methods) | properties
+            self.assertEqual({one for one in found if not one.startswith("_")}, {one for one in known if one[0] != "_"})
+
+    def test_the_keywords_stand_in_their_file(self):
+        names = [one.targets[0].id for one in tree(FOLDER / "books.py").body if isinstance(one, ast.Assign)]
+        self.assertIn("KEYWORDS", names)
 
 
 class RulesTest(Case):
@@ -100,6 +138,20 @@ class RulesTest(Case):
             for one in ast.walk(tree(path)):
                 if isinstance(one, ast.FunctionDef):
                     self.assertLessEqual(one.end_lineno - one.lineno + 1, 40, one.name)
+
+    def test_no_local_name_is_that_of_an_import_or_a_class(self):
+        for path in files():
+            whole = list(ast.walk(tree(path)))
+            taken = {name.name for one in whole if isinstance(one, ast.ImportFrom) for name in one.names}
+            taken |= {one.name for one in whole if isinstance(one, ast.ClassDef)}
+            local = {one.arg for one in whole if isinstance(one, ast.arg)}
+            local |= {one.id for one in whole if isinstance(one, ast.Name) and isinstance(one.ctx, ast.Store)}
+            self.assertEqual(local & taken, set(), path.name)
+
+    def test_there_are_no_generator_expressions(self):
+        # A class compares, so any, all, sum, min, max and sorted take lists.
+        for path in files():
+            self.assertFalse(any(isinstance(one, ast.GeneratorExp) for one in ast.walk(tree(path))), path.name)
 
     def test_imports_come_from_the_package_alone(self):
         for path in files():
